@@ -1,0 +1,1 @@
+"""What of ../shared/LANGUAGE.md a script can see, checked over the package's files."""

@@ -1,0 +1,1 @@
+"""Frontways: all sets of ties of a sort, in one graph."""
