@@ -93,8 +93,6 @@ def walked_at_once(source, node):
         return len(above.args) == 1
     if source.is_call(above, "zip"):
         return node in above.args
-    if source.is_call(above, "reversed"):
-        return is_walk(source, above)
     if source.is_call(above, *WALKERS):
         return above.args[0] is node
     joins = isinstance(above, ast.Call) and isinstance(above.func, ast.Attribute) and above.func.attr == "join"

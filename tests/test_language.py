@@ -186,6 +186,7 @@ BAD = [
     ("L23", body("z = range(3)", "return z")),
     ("L23", body("return xs.items()")),
     ("L23", body("return max(1, range(3))")),
+    ("L23", body("for x in reversed(range(3)):", "    pass")),
     ("L23", body("for x in xs:", "    xs.append(x)")),
     ("L23", body("for k, x in enumerate(xs):", "    xs[k] = 1")),
     ("L23", body("for k, x in xs.items():", "    xs.pop(k)")),
