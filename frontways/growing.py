@@ -29,7 +29,7 @@ class Growth:
             return 1 if self.rule.fulfilled(self.web, state) else 0
         # Like states have like sets from there on: so each is gone on from once, whatever has led to it.
         if (number, state) not in self.known:
-            without = self.knot_at(number + 1, state)
+            without = self.knot_at(number + 1, self.rule.left(self.web, state, number))
             having = self.knot_at(number + 1, self.rule.taken(self.web, state, number))
             self.rows.append((number, without, having))
             self.known[(number, state)] = len(self.rows) + 1

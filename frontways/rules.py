@@ -23,6 +23,10 @@ class Rule:
         """The state with the tie of this number put in, too."""
         return state + (number,)
 
+    def left(self, web, state, number):
+        """The state with the tie of this number left out for good."""
+        return state
+
     def passed(self, web, state, point):
         """The state when no tie is still to come that has this point; each point is passed once."""
         return state

@@ -1,9 +1,14 @@
 """Rules and webs that the tests grow sieves of, and what the document says of the rules, worked out a second time."""
 
+from functools import lru_cache
 from itertools import permutations
 
+from frontways.covers import Covers
+from frontways.crowds import Crowds
+from frontways.pairs import Pairs
 from frontways.ways import Rings, Rounds, Ways
 from frontways.woods import Trees, Woods
+from sample_sieves import HUGE
 from sample_webs import BIG_SAMPLES, SAMPLES, TWELVE_TIES, all_webs_of, hang_together
 
 CUBE = [(a, b) for a in range(8) for b in range(a + 1, 8) if a ^ b in (1, 2, 4)]
@@ -38,11 +43,18 @@ def ends_in(points):
     return [(0, points - 1), (points // 2, 1)]
 
 
+def bounds_in(points):
+    """Of crowds: any, none but of one point, few points, as many as two parts have, those no web has."""
+    return [(1, HUGE), (1, 1), (2, 3), ((points + 1) // 2, points), (points + 1, HUGE)]
+
+
 def rules_for(points):
     """Each sort of rule, as a way to make it: so that a test can have it made anew."""
-    plain = [("rings", Rings), ("rounds", Rounds), ("woods", Woods), ("trees", Trees)]
+    plain = [("rings", Rings), ("rounds", Rounds), ("woods", Woods), ("trees", Trees), ("pairs", Pairs)]
+    more = [("full", lambda: Pairs(True)), ("covers", Covers)]
     ways = [(("ways", a, b), lambda a=a, b=b: Ways(a, b)) for a, b in ends_in(points)]
-    return plain + ways
+    crowds = [(("crowds", low, high), lambda low=low, high=high: Crowds(low, high)) for low, high in bounds_in(points)]
+    return plain + more + ways + crowds
 
 
 def walks(ties, came_to, goal):
@@ -91,14 +103,50 @@ def all_hang_together(points, ties, some):
     return all(hang_together(ties, some, 0, point) for point in range(points))
 
 
+@lru_cache(maxsize=20000)
+def marks_by_walk(points, ties, some):
+    """For each point the one from which a walk over ties of the set first came to it."""
+    marks = {}
+    for point in range(points):
+        waiting = [point]
+        while waiting:
+            here = waiting.pop()
+            if here not in marks:
+                marks[here] = point
+                waiting += [end for number in some if here in ties[number] for end in ties[number]]
+    return [marks[point] for point in range(points)]
+
+
+def is_crowds(points, ties, some, low, high):
+    marks = marks_by_walk(points, tuple(ties), some)
+    left_out = [tie for number, tie in enumerate(ties) if number not in some]
+    if any(marks[a] == marks[b] for a, b in left_out):
+        return False
+    return all(low <= marks.count(mark) <= high for mark in marks)
+
+
+def counts_by_hand(points, ties, some):
+    ends = [end for number in some for end in ties[number]]
+    return [ends.count(point) for point in range(points)]
+
+
 def fits_by_words(points, ties, name, sets):
     """Of the sets those that fit the rule of this name."""
-    if name == "woods":
-        return {some for some in sets if not has_ring(ties, some)}
-    if name == "trees":
-        return {some for some in sets if not has_ring(ties, some) and all_hang_together(points, ties, some)}
     if name == "rings":
         return rings_by_walk(points, ties)
     if name == "rounds":
         return rounds_by_walk(points, ties)
-    return ways_by_walk(ties, name[1], name[2])
+    if name[0] == "ways":
+        return ways_by_walk(ties, name[1], name[2])
+    return {some for some in sets if set_fits_by_words(points, ties, name, some)}
+
+
+def set_fits_by_words(points, ties, name, some):
+    if name == "woods":
+        return not has_ring(ties, some)
+    if name == "trees":
+        return not has_ring(ties, some) and all_hang_together(points, ties, some)
+    if name[0] == "crowds":
+        return is_crowds(points, ties, some, name[1], name[2])
+    counts = counts_by_hand(points, ties, some)
+    return {"pairs": max(counts) < 2, "full": set(counts) == {1}, "covers": 0 not in counts}[name]

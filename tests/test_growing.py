@@ -3,10 +3,14 @@
 import unittest
 from itertools import permutations
 
+from frontways.counting import count_of, size_counts
+from frontways.covers import Covers
+from frontways.crowds import Crowds
 from frontways.errors import BadRule
 from frontways.fronts import narrow_order, reordered
 from frontways.growing import grown
 from frontways.making import least_sieve, sieve_of
+from frontways.pairs import Pairs
 from frontways.parting import parted_by
 from frontways.rules import Rule
 from frontways.sieves import Sieve, has_set, sets_of
@@ -80,8 +84,9 @@ class Fitting(unittest.TestCase):
 
     def test_by_turns(self):
         webs = [Web(points, ties) for points, ties in RING_WEBS + SAMPLES[5:8] if points > 2]
-        for rule in (Rings(), Rounds(), Woods(), Trees(), Ways(0, 2)):
-            alone = [told(grown(web, rule)) for web in webs]
+        for name, make in rules_for(3):
+            rule = make()
+            alone = [told(grown(web, make())) for web in webs]
             for order in (list(range(len(webs))), list(range(len(webs)))[::-1], [0, 3, 0, 1, 3]):
                 for k in order:
                     self.assertEqual(alone[k], told(grown(webs[k], rule)))
@@ -121,7 +126,7 @@ class OwnRules(unittest.TestCase):
     def test_all_stand_under_rule(self):
         for name, make in rules_for(2):
             self.assertIsInstance(make(), Rule)
-        for kind in (Ways, Rings, Rounds, Woods, Trees):
+        for kind in (Ways, Rings, Rounds, Woods, Trees, Crowds, Pairs, Covers):
             self.assertTrue(issubclass(kind, Rule))
 
 
@@ -176,11 +181,14 @@ class Anew(unittest.TestCase):
             orders = [list(range(many))[::-1], list(range(1, many, 2)) + list(range(0, many, 2))]
             if many <= 6:
                 orders.append(narrow_order(web))
-            sets = sets_of(grown(web, rule))
+            before = grown(web, rule)
             for order in orders:
                 new = {number: k for k, number in enumerate(order)}
-                expected = in_order([tuple(sorted(new[number] for number in some)) for some in sets])
-                self.assertEqual(expected, sets_of(grown(reordered(web, order), rule)), (points, ties, name, order))
+                expected = in_order([tuple(sorted(new[number] for number in some)) for some in sets_of(before)])
+                sieve = grown(reordered(web, order), rule)
+                self.assertEqual(expected, sets_of(sieve), (points, ties, name, order))
+                self.assertEqual(count_of(before), count_of(sieve))
+                self.assertEqual(size_counts(before), size_counts(sieve))
 
     def test_every_order_of_a_web(self):
         web = Web(4, [(0, 1), (1, 2), (2, 3), (3, 0), (0, 2)])
@@ -194,11 +202,9 @@ class Anew(unittest.TestCase):
         for points, ties in SAMPLES + RING_WEBS + TWELVES[-2:]:
             for new in (list(range(points))[::-1], list(range(1, points)) + [0]):
                 web = Web(points, [(new[a], new[b]) for a, b in ties])
-                for kind in (Rings, Rounds, Woods, Trees):
-                    self.assertEqual(told(grown(Web(points, ties), kind())), told(grown(web, kind())))
-                if points > 1:
-                    before = grown(Web(points, ties), Ways(0, points - 1))
-                    self.assertEqual(told(before), told(grown(web, Ways(new[0], new[points - 1]))))
+                for name, make in rules_for(points):
+                    rule = Ways(new[name[1]], new[name[2]]) if name[0] == "ways" else make()
+                    self.assertEqual(told(grown(Web(points, ties), make())), told(grown(web, rule)), (ties, name))
 
 
 if __name__ == "__main__":

@@ -2,8 +2,11 @@
 
 import unittest
 
+from frontways.covers import Covers
+from frontways.crowds import Crowds
 from frontways.errors import FrontError
 from frontways.growing import grown
+from frontways.pairs import Pairs
 from frontways.sieves import sets_of
 from frontways.ways import Rings, Rounds, Ways
 from frontways.webs import Web
@@ -94,20 +97,23 @@ class Askers(unittest.TestCase):
         other = Web(5, [(0, 4), (4, 1), (1, 0), (2, 3)])
         rules = [make() for name, make in rules_for(4)]
         before = [all_told(web, rule) for rule in rules]
-        for rule in rules + [Woods(), Trees(), Rounds(), Ways(4, 0)]:
+        for rule in rules + [Woods(), Trees(), Rounds(), Ways(4, 0), Crowds(2, 4), Pairs(True), Pairs(), Covers()]:
             all_told(other, rule)
         self.assertRaises(FrontError, grown, web, Ways(4, 0))
+        self.assertRaises(FrontError, Crowds, 3, 2)
         self.assertRaises(FrontError, Ways(1, 1).fits, web, ())
         self.assertEqual(before, [all_told(web, rule) for rule in rules])
         self.assertEqual(before, [all_told(Web(4, TIES), make()) for name, make in rules_for(4)])
 
     def test_rules_share_nothing(self):
         web = Web(4, TIES)
-        one = Ways(0, 2)
-        before = all_told(web, one)
-        other = Ways(1, 3)
-        self.assertNotEqual(before, all_told(web, other))
-        self.assertEqual(before, all_told(web, one))
+        for make_one, make_other in ((lambda: Ways(0, 2), lambda: Ways(1, 3)), (Pairs, lambda: Pairs(True)),
+                                     (lambda: Pairs(True), Pairs), (lambda: Crowds(1, 2), lambda: Crowds(2, 4))):
+            one = make_one()
+            before = all_told(web, one)
+            other = make_other()
+            self.assertNotEqual(before, all_told(web, other))
+            self.assertEqual(before, all_told(web, one))
 
 
 if __name__ == "__main__":
